@@ -12,8 +12,8 @@ import (
 	"testing"
 )
 
-// secretWords are the layers all of whose words (of type uint64 or int64) count as secret, while numbers of type int are public.
-var secretWords = []string{"mask", "word", "limb"}
+// secretWords are the layers all of whose words (of type uint64 or int64) count as secret, those of points included, while numbers of type int are public.
+var secretWords = []string{"mask", "word", "limb", "diff"}
 
 // loader checks the types of the project's packages, without their tests, and of those that they import.
 type loader struct {
@@ -73,7 +73,7 @@ func (l *loader) secret(e ast.Expr) bool {
 	return v.IsValue() && v.Value == nil && isWord(v.Type)
 }
 
-// holdsSecrets returns whether an expression is a word that is not a constant, or a list of words.
+// holdsSecrets returns whether an expression is a word that is not a constant, or a list or struct with words.
 func (l *loader) holdsSecrets(e ast.Expr) bool {
 	v := l.info.Types[e]
 	return v.IsValue() && v.Value == nil && holdsWords(v.Type)
@@ -84,13 +84,19 @@ func isWord(t types.Type) bool {
 	return ok && (b.Kind() == types.Uint64 || b.Kind() == types.Int64)
 }
 
-// holdsWords returns whether t is a word or a list of words.
+// holdsWords returns whether t is a word, or a list or struct with words.
 func holdsWords(t types.Type) bool {
 	switch x := t.Underlying().(type) {
 	case *types.Slice:
 		return holdsWords(x.Elem())
 	case *types.Array:
 		return holdsWords(x.Elem())
+	case *types.Struct:
+		for field := range x.Fields() {
+			if holdsWords(field.Type()) {
+				return true
+			}
+		}
 	}
 	return isWord(t)
 }
@@ -201,7 +207,7 @@ func TestWordsStaySecret(t *testing.T) {
 
 // TestRevealedWordsAreFound checks the check itself, as its silence would otherwise say nothing.
 func TestRevealedWordsAreFound(t *testing.T) {
-	const frame = "package sample\nimport (\"math/bits\"; \"slices\")\nvar _, _ = bits.Len64, slices.Max[[]int]\nfunc f(a, b []uint64, x uint64, y int64, n int) {\n"
+	const frame = "package sample\nimport (\"math/bits\"; \"slices\")\nvar _, _ = bits.Len64, slices.Max[[]int]\ntype point struct{ x, y int64 }\nfunc f(a, b []uint64, x uint64, y int64, n int, p, q point) {\n"
 	l := newLoader()
 	for _, c := range []struct {
 		body  string
@@ -211,6 +217,11 @@ func TestRevealedWordsAreFound(t *testing.T) {
 		{"if a[0] < b[0] { return }", true},
 		{"_ = y > 0", true},
 		{"_ = [2]uint64(a) == [2]uint64(b)", true},
+		{"_ = p == q", true},
+		{"_ = p.x < q.x", true},
+		{"_ = [2]point{p, q} != [2]point{q, p}", true},
+		{"_ = slices.Contains([]point{p}, q)", true},
+		{"_ = a[p.y]", true},
 		{"_ = a[x]", true},
 		{"_ = a[x:]", true},
 		{"_ = a[:y]", true},
@@ -240,6 +251,9 @@ func TestRevealedWordsAreFound(t *testing.T) {
 		{"_ = make([]uint64, len(a))", false},
 		{"_ = append(a, x)", false},
 		{"_ = slices.Clone(a)", false},
+		{"_ = slices.Clone([]point{p, q})", false},
+		{"_ = point{p.x - q.x, p.y - q.y}", false},
+		{"_ = struct{ n int }{n} == struct{ n int }{1}", false},
 		{"for _, v := range a[:copy(a, b)] { x ^= v }", false},
 		{"_ = uint64(n) + uint64(len(a))", false},
 	} {
