@@ -13,7 +13,7 @@ import (
 )
 
 // secretWords are the layers all of whose words (of type uint64 or int64) count as secret, those of points included, while numbers of type int are public.
-var secretWords = []string{"mask", "word", "limb", "diff", "orient", "circle", "segment"}
+var secretWords = []string{"mask", "word", "limb", "diff", "orient", "circle", "segment", "array"}
 
 // loader checks the types of the project's packages, without their tests, and of those that they import.
 type loader struct {
@@ -241,6 +241,11 @@ func TestRevealedWordsAreFound(t *testing.T) {
 		{"_ = slices.Contains(a, 0)", true},
 		{"_ = slices.Index(a, x)", true},
 		{"_, _ = slices.BinarySearch(a, x)", true},
+		{"if p := &a[0]; *p > 0 { return }", true},
+		{"for _, v := range slices.All(a) { if v == x { break } }", true},
+		{"for range func(yield func(*uint64) bool) { _ = x == 0 && yield(&x) } { }", true},
+		{"for range func(yield func(int) bool) { yield(int(x)) } { }", true},
+		{"for i := range func(yield func(uint64) bool) { yield(x) } { a[i] = 0 }", true},
 		{"_ = a == nil", false},
 		{"const c uint64 = 1; _ = c == 1", false},
 		{"if n == 0 || len(a) != len(b) { return }", false},
@@ -256,6 +261,7 @@ func TestRevealedWordsAreFound(t *testing.T) {
 		{"_ = struct{ n int }{n} == struct{ n int }{1}", false},
 		{"for _, v := range a[:copy(a, b)] { x ^= v }", false},
 		{"_ = uint64(n) + uint64(len(a))", false},
+		{"for p := range func(yield func(*uint64) bool) { if !yield(&a[n]) { return } } { *p |= x }", false},
 	} {
 		text, err := parser.ParseFile(l.files, "sample.go", frame+c.body+"\n}", 0)
 		if err != nil {
