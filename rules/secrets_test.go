@@ -13,7 +13,7 @@ import (
 )
 
 // secretWords are the layers all of whose words (of type uint64 or int64) count as secret, those of points included, while numbers of type int are public.
-var secretWords = []string{"mask", "word", "limb", "diff", "orient", "circle", "segment", "array", "network", "sorting", "polygon", "disc"}
+var secretWords = []string{"mask", "word", "limb", "diff", "orient", "circle", "segment", "array", "network", "sorting", "polygon", "disc", "fence"}
 
 // loader checks the types of the project's packages, without their tests, and of those that they import.
 type loader struct {
@@ -73,7 +73,7 @@ func (l *loader) secret(e ast.Expr) bool {
 	return v.IsValue() && v.Value == nil && isWord(v.Type)
 }
 
-// holdsSecrets returns whether an expression is a word that is not a constant, or a list or struct with words.
+// holdsSecrets returns whether an expression is a word that is not a constant, or a list, struct or interface that may hold words.
 func (l *loader) holdsSecrets(e ast.Expr) bool {
 	v := l.info.Types[e]
 	return v.IsValue() && v.Value == nil && holdsWords(v.Type)
@@ -84,7 +84,7 @@ func isWord(t types.Type) bool {
 	return ok && (b.Kind() == types.Uint64 || b.Kind() == types.Int64)
 }
 
-// holdsWords returns whether t is a word, or a list or struct with words.
+// holdsWords returns whether t is a word, or a list, struct or interface that may hold words.
 func holdsWords(t types.Type) bool {
 	switch x := t.Underlying().(type) {
 	case *types.Slice:
@@ -97,6 +97,8 @@ func holdsWords(t types.Type) bool {
 				return true
 			}
 		}
+	case *types.Interface:
+		return true
 	}
 	return isWord(t)
 }
@@ -112,13 +114,13 @@ func (l *loader) reveals(n ast.Node) bool {
 			return l.secret(x.Rhs[0])
 		}
 	case *ast.IndexExpr:
-		return l.secret(x.Index)
+		return l.holdsSecrets(x.Index)
 	case *ast.SliceExpr:
 		return l.secret(x.Low) || l.secret(x.High) || l.secret(x.Max)
 	case *ast.RangeStmt:
 		return l.secret(x.X)
 	case *ast.SwitchStmt:
-		return l.secret(x.Tag)
+		return x.Tag != nil && l.holdsSecrets(x.Tag)
 	case *ast.CallExpr:
 		return l.callReveals(x)
 	}
@@ -221,13 +223,18 @@ func TestRevealedWordsAreFound(t *testing.T) {
 		{"_ = p.x < q.x", true},
 		{"_ = [2]point{p, q} != [2]point{q, p}", true},
 		{"_ = slices.Contains([]point{p}, q)", true},
+		{"_ = any(p) == any(q)", true},
+		{"_ = any(p) == p", true},
 		{"_ = a[p.y]", true},
+		{"_ = map[point]int{}[p]", true},
 		{"_ = a[x]", true},
 		{"_ = a[x:]", true},
 		{"_ = a[:y]", true},
 		{"_ = a[0:0:x]", true},
 		{"for range x { }", true},
 		{"switch x { }", true},
+		{"switch p { case q: }", true},
+		{"switch any(p) { case q: }", true},
 		{"_ = int(x)", true},
 		{"_ = uint8(y)", true},
 		{"_ = x >> a[0]", true},
@@ -247,6 +254,10 @@ func TestRevealedWordsAreFound(t *testing.T) {
 		{"for range func(yield func(int) bool) { yield(int(x)) } { }", true},
 		{"for i := range func(yield func(uint64) bool) { yield(x) } { a[i] = 0 }", true},
 		{"_ = a == nil", false},
+		{"_ = any(p) == nil", false},
+		{"switch any(p).(type) { case point: }", false},
+		{"switch n { case 1: }", false},
+		{"switch { case n == 1: }", false},
 		{"const c uint64 = 1; _ = c == 1", false},
 		{"if n == 0 || len(a) != len(b) { return }", false},
 		{"for i := range n { a[i] = x>>63 + uint64(y) }", false},
