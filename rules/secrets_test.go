@@ -13,7 +13,7 @@ import (
 )
 
 // secretWords are the layers all of whose words (of type uint64 or int64) count as secret, those of points included, while numbers of type int are public.
-var secretWords = []string{"mask", "word", "limb", "diff", "orient", "circle", "segment", "array", "network", "sorting", "polygon", "disc", "fence"}
+var secretWords = []string{"mask", "word", "limb", "diff", "orient", "circle", "segment", "array", "network", "sorting", "polygon", "disc", "fence", "header"}
 
 // loader checks the types of the project's packages, without their tests, and of those that they import.
 type loader struct {
