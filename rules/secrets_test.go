@@ -13,7 +13,13 @@ import (
 )
 
 // secretWords are the layers all of whose words (of type uint64 or int64) count as secret, those of points included, while numbers of type int are public.
-var secretWords = []string{"mask", "word", "limb", "diff", "orient", "circle", "segment", "array", "network", "sorting", "polygon", "disc", "fence", "header"}
+var secretWords = []string{"mask", "word", "limb", "diff", "orient", "circle", "segment", "array", "network", "sorting", "polygon", "disc", "fence", "header", "codec"}
+
+// secretBytes are those of these layers whose bytes (of type uint8) count as secret words, too. (The bytes of headers are public.)
+var secretBytes = []string{"codec"}
+
+// revealing are the functions that have to reveal something: Read decides on the first byte of a response, errorOf makes an error of it, answer takes Value and Count, which are of type int, and isAnswer decides on whether there is an answer at all.
+var revealing = map[string][]string{"codec": {"Read", "errorOf", "answer", "isAnswer"}}
 
 // loader checks the types of the project's packages, without their tests, and of those that they import.
 type loader struct {
@@ -22,6 +28,7 @@ type loader struct {
 	checked  map[string]*types.Package
 	texts    map[string][]*ast.File
 	standard types.Importer
+	bytes    bool // whether bytes count as words
 }
 
 func newLoader() *loader {
@@ -70,37 +77,37 @@ func (l *loader) secret(e ast.Expr) bool {
 		return false
 	}
 	v := l.info.Types[e]
-	return v.IsValue() && v.Value == nil && isWord(v.Type)
+	return v.IsValue() && v.Value == nil && l.isWord(v.Type)
 }
 
 // holdsSecrets returns whether an expression is a word that is not a constant, or a list, struct or interface that may hold words.
 func (l *loader) holdsSecrets(e ast.Expr) bool {
 	v := l.info.Types[e]
-	return v.IsValue() && v.Value == nil && holdsWords(v.Type)
+	return v.IsValue() && v.Value == nil && l.holdsWords(v.Type)
 }
 
-func isWord(t types.Type) bool {
+func (l *loader) isWord(t types.Type) bool {
 	b, ok := t.Underlying().(*types.Basic)
-	return ok && (b.Kind() == types.Uint64 || b.Kind() == types.Int64)
+	return ok && (b.Kind() == types.Uint64 || b.Kind() == types.Int64 || l.bytes && b.Kind() == types.Uint8)
 }
 
 // holdsWords returns whether t is a word, or a list, struct or interface that may hold words.
-func holdsWords(t types.Type) bool {
+func (l *loader) holdsWords(t types.Type) bool {
 	switch x := t.Underlying().(type) {
 	case *types.Slice:
-		return holdsWords(x.Elem())
+		return l.holdsWords(x.Elem())
 	case *types.Array:
-		return holdsWords(x.Elem())
+		return l.holdsWords(x.Elem())
 	case *types.Struct:
 		for field := range x.Fields() {
-			if holdsWords(field.Type()) {
+			if l.holdsWords(field.Type()) {
 				return true
 			}
 		}
 	case *types.Interface:
 		return true
 	}
-	return isWord(t)
+	return l.isWord(t)
 }
 
 // reveals returns whether n decides on a word, uses it as an index, a bound or a shift count, or makes a public value of it.
@@ -147,7 +154,7 @@ func (l *loader) callReveals(call *ast.CallExpr) bool {
 	f := l.info.Types[call.Fun]
 	switch {
 	case f.IsType():
-		return l.secret(call.Args[0]) && !isWord(f.Type)
+		return l.secret(call.Args[0]) && !l.isWord(f.Type) || l.holdsSecrets(call.Args[0]) && !l.holdsWords(f.Type)
 	case f.IsBuiltin():
 		name := ast.Unparen(call.Fun).(*ast.Ident).Name
 		return name != "append" && slices.ContainsFunc(call.Args, l.secret)
@@ -160,33 +167,45 @@ func (l *loader) callReveals(call *ast.CallExpr) bool {
 	if _, ok := o.(*types.Func); !ok || strings.HasPrefix(o.Pkg().Path(), "geofence/") {
 		return false
 	}
-	return slices.ContainsFunc(call.Args, l.holdsSecrets) && !onlyWords(l.info.TypeOf(call))
+	return slices.ContainsFunc(call.Args, l.holdsSecrets) && !l.onlyWords(l.info.TypeOf(call))
 }
 
 // onlyWords returns whether all results of a call, whose type is t, hold words.
-func onlyWords(t types.Type) bool {
+func (l *loader) onlyWords(t types.Type) bool {
 	results, ok := t.(*types.Tuple)
 	if !ok {
-		return holdsWords(t)
+		return l.holdsWords(t)
 	}
 	for v := range results.Variables() {
-		if !holdsWords(v.Type()) {
+		if !l.holdsWords(v.Type()) {
 			return false
 		}
 	}
 	return true
 }
 
-// places returns the positions in a checked package at which a word is revealed.
-func (l *loader) places(path string) []token.Position {
-	var places []token.Position
+// place is where a word is revealed: a position, and the name of the function that it is in, if there is one.
+type place struct {
+	position token.Position
+	function string
+}
+
+// places returns the places in a checked package at which a word is revealed.
+func (l *loader) places(path string) []place {
+	var places []place
 	for _, text := range l.texts[path] {
-		ast.Inspect(text, func(n ast.Node) bool {
-			if n != nil && l.reveals(n) {
-				places = append(places, l.files.Position(n.Pos()))
+		for _, d := range text.Decls {
+			name := ""
+			if f, ok := d.(*ast.FuncDecl); ok {
+				name = f.Name.Name
 			}
-			return true
-		})
+			ast.Inspect(d, func(n ast.Node) bool {
+				if n != nil && l.reveals(n) {
+					places = append(places, place{l.files.Position(n.Pos()), name})
+				}
+				return true
+			})
+		}
 	}
 	return places
 }
@@ -194,22 +213,30 @@ func (l *loader) places(path string) []token.Position {
 func TestWordsStaySecret(t *testing.T) {
 	l := newLoader()
 	for _, layer := range secretWords {
-		path := "geofence/" + layer
+		path, permitted := "geofence/"+layer, revealing[layer]
+		l.bytes = slices.Contains(secretBytes, layer)
 		if _, err := l.Import(path); err != nil {
 			t.Fatal(err)
 		}
 		if len(l.texts[path]) == 0 {
 			t.Errorf("package %s has no files", layer)
 		}
-		for _, place := range l.places(path) {
-			t.Errorf("%s: a decision, an index or a public value depends on a word", place)
+		places := l.places(path)
+		for _, p := range places {
+			if !slices.Contains(permitted, p.function) {
+				t.Errorf("%s: a decision, an index or a public value depends on a word", p.position)
+			}
+		}
+		for _, name := range permitted {
+			if !slices.ContainsFunc(places, func(p place) bool { return p.function == name }) {
+				t.Errorf("%s of %s reveals nothing, and needs no permission", name, layer)
+			}
 		}
 	}
 }
 
 // TestRevealedWordsAreFound checks the check itself, as its silence would otherwise say nothing.
 func TestRevealedWordsAreFound(t *testing.T) {
-	const frame = "package sample\nimport (\"math/bits\"; \"slices\")\nvar _, _ = bits.Len64, slices.Max[[]int]\ntype point struct{ x, y int64 }\nfunc f(a, b []uint64, x uint64, y int64, n int, p, q point) {\n"
 	l := newLoader()
 	for _, c := range []struct {
 		body  string
@@ -274,17 +301,59 @@ func TestRevealedWordsAreFound(t *testing.T) {
 		{"_ = uint64(n) + uint64(len(a))", false},
 		{"for p := range func(yield func(*uint64) bool) { if !yield(&a[n]) { return } } { *p |= x }", false},
 	} {
-		text, err := parser.ParseFile(l.files, "sample.go", frame+c.body+"\n}", 0)
-		if err != nil {
-			t.Fatal(err)
-		}
-		l.texts[c.body] = []*ast.File{text}
-		config := types.Config{Importer: l}
-		if _, err := config.Check("sample", l.files, l.texts[c.body], l.info); err != nil {
-			t.Fatalf("%s: %v", c.body, err)
-		}
-		if found := len(l.places(c.body)) > 0; found != c.found {
+		if found := l.findsIn(t, c.body); found != c.found {
 			t.Errorf("%s: found %v, want %v", c.body, found, c.found)
 		}
 	}
+}
+
+// TestRevealedBytesAreFound uses bytes, which count as words only if the loader is told so.
+func TestRevealedBytesAreFound(t *testing.T) {
+	l := newLoader()
+	for _, c := range []struct {
+		body      string
+		uncounted bool // whether it is found where bytes do not count
+		counted   bool // whether it is found where they do
+	}{
+		{"if s[0] == 0 { return }", false, true},
+		{"_ = a[s[0]]", false, true},
+		{"_ = int(s[n])", false, true},
+		{"switch s[0] { case 1: }", false, true},
+		{"_ = string(s)", false, true},
+		{"_ = map[string]int{}[string(s)]", false, true},
+		{"_ = slices.Equal(s, s)", false, true},
+		{"_ = struct{ v byte }{s[0]} == struct{ v byte }{}", false, true},
+		{"for _, v := range s { if v > 1 { break } }", false, true},
+		{"func() { _ = int(s[0]) }()", false, true},
+		{"_ = int64(s[0]) < 0", true, true},
+		{"_ = append(s, byte(x>>(8*n)))", true, false},
+		{"x |= uint64(s[n]) << (8 * n)", false, false},
+		{"if len(s) == n { return }", false, false},
+		{"_ = slices.Clone(s)[n:]", false, false},
+	} {
+		l.bytes = false
+		uncounted := l.findsIn(t, c.body)
+		l.bytes = true
+		counted := l.findsIn(t, c.body)
+		if uncounted != c.uncounted || counted != c.counted {
+			t.Errorf("%s: found %v, and %v where bytes count, want %v and %v", c.body, uncounted, counted, c.uncounted, c.counted)
+		}
+	}
+}
+
+// findsIn returns whether a function with this body reveals a word.
+func (l *loader) findsIn(t *testing.T, body string) bool {
+	t.Helper()
+	const frame = "package sample\nimport (\"math/bits\"; \"slices\")\nvar _, _ = bits.Len64, slices.Max[[]int]\ntype point struct{ x, y int64 }\nfunc f(a, b []uint64, x uint64, y int64, n int, p, q point, s []byte) {\n"
+	text, err := parser.ParseFile(l.files, "sample.go", frame+body+"\n}", 0)
+	if err != nil {
+		t.Fatal(err)
+	}
+	l.texts[body] = []*ast.File{text}
+	config := types.Config{Importer: l}
+	if _, err := config.Check("sample", l.files, l.texts[body], l.info); err != nil {
+		t.Fatalf("%s: %v", body, err)
+	}
+	places := l.places(body)
+	return len(places) > 0 && places[0].function == "f"
 }
