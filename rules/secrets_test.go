@@ -13,13 +13,13 @@ import (
 )
 
 // secretWords are the layers all of whose words (of type uint64 or int64) count as secret, those of points included, while numbers of type int are public.
-var secretWords = []string{"mask", "word", "limb", "diff", "orient", "circle", "segment", "array", "network", "sorting", "polygon", "disc", "fence", "header", "codec"}
+var secretWords = []string{"mask", "word", "limb", "diff", "orient", "circle", "segment", "array", "network", "sorting", "polygon", "disc", "fence", "header", "codec", "engine"}
 
 // secretBytes are those of these layers whose bytes (of type uint8) count as secret words, too. (The bytes of headers are public.)
 var secretBytes = []string{"codec"}
 
-// revealing are the functions that have to reveal something: Read decides on the first byte of a response, errorOf makes an error of it, answer takes Value and Count, which are of type int, and isAnswer decides on whether there is an answer at all.
-var revealing = map[string][]string{"codec": {"Read", "errorOf", "answer", "isAnswer"}}
+// revealing are the functions that have to reveal something: Read decides on the first byte of a response, errorOf makes an error of it, answer takes Value and Count, which are of type int, and isAnswer decides on whether there is an answer at all; valueOf makes a Value, which is of type int, of a word.
+var revealing = map[string][]string{"codec": {"Read", "errorOf", "answer", "isAnswer"}, "engine": {"valueOf"}}
 
 // loader checks the types of the project's packages, without their tests, and of those that they import.
 type loader struct {
